@@ -1,0 +1,1 @@
+"""Lockdoors: which doors of a building to lock for good."""

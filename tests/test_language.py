@@ -1,0 +1,94 @@
+"""Rules of the language subset that can be seen from a file alone."""
+
+import ast
+import pathlib
+import re
+import unittest
+
+PACKAGE = pathlib.Path(__file__).resolve().parent.parent / 'lockdoors'
+FILES = sorted(PACKAGE.glob('*.py'))
+
+BARRED_WORDS = re.compile(
+    r'\b(type|typing|typing_extensions|enum|Enum|IntEnum|StrEnum|Flag|IntFlag|Generic|Protocol|ABC|ABCMeta|namedtuple'
+    r'|NamedTuple|TypedDict|TYPE_CHECKING|abstractmethod)\b|dataclass|overload|contextmanager')
+BARRED_NAMES = set(
+    'register mro elements open input law version_info with_traceback add_note attrgetter breakpoint builtins compile '
+    'copyright credits delattr dir eval exec exit gc getattr globals hasattr help id importlib license locals '
+    'methodcaller os quit setattr type vars sys print chr'.split())
+SPECIAL = set(
+    '__init__ __eq__ __repr__ __str__ __len__ __enter__ __exit__ __call__ __iter__ __or__ __and__ __sub__ '
+    '__contains__ __bool__'.split())
+BARRED_NODES = (ast.Global, ast.AsyncFunctionDef, ast.AsyncFor, ast.AsyncWith, ast.Await, ast.Div, ast.Import)
+
+
+def nodes(path):
+    return list(ast.walk(ast.parse(path.read_text())))
+
+
+def names_in(path):
+    """All names that a file binds or uses, attributes included."""
+    for node in nodes(path):
+        for field in ('id', 'attr', 'arg', 'name'):
+            name = getattr(node, field, None)
+            if isinstance(name, str) and not isinstance(node, ast.alias):
+                yield name
+
+
+class LanguageTest(unittest.TestCase):
+    def test_folder(self):
+        found = [path for path in PACKAGE.iterdir() if path.name != '__pycache__']
+        self.assertEqual(sorted(found), FILES)
+        self.assertIn(PACKAGE / '__init__.py', FILES)
+        for path in FILES:
+            self.assertRegex(path.name, r'^[a-z0-9_]+\.py$')
+
+    def test_characters_and_sizes(self):
+        for path in FILES:
+            text = path.read_text()
+            self.assertRegex(text, r'\A[\n -~]*\Z')
+            self.assertLessEqual(len(text.splitlines()), 399)
+            self.assertLessEqual(max(len(line) for line in text.splitlines()), 120)
+            self.assertIsNone(BARRED_WORDS.search(text), path)
+
+    def test_sizes_of_functions(self):
+        for path in FILES:
+            for node in nodes(path):
+                if isinstance(node, ast.FunctionDef):
+                    self.assertLessEqual(node.end_lineno - node.lineno + 1, 40, node.name)
+
+    def test_imports(self):
+        for path in FILES:
+            for node in nodes(path):
+                if isinstance(node, ast.ImportFrom):
+                    self.assertTrue(node.module.startswith('lockdoors.'), path)
+                    self.assertEqual(node.level, 0)
+                    self.assertNotIn('*', [alias.name for alias in node.names])
+
+    def test_names(self):
+        for path in FILES:
+            for name in names_in(path):
+                self.assertNotIn(name, BARRED_NAMES, path)
+                self.assertTrue(name in SPECIAL or not name.startswith('_'), (path, name))
+
+    def test_statements_and_values(self):
+        for path in FILES:
+            for node in nodes(path):
+                self.assertNotIsInstance(node, BARRED_NODES, path)
+                if isinstance(node, ast.Constant):
+                    self.assertNotIsInstance(node.value, float, path)
+                    self.assertFalse(isinstance(node.value, str) and '%' in node.value, path)
+
+    def test_no_generator_expressions(self):
+        for path in FILES:
+            for node in nodes(path):
+                self.assertNotIsInstance(node, ast.GeneratorExp, path)
+
+    def test_no_name_is_both_a_method_and_an_attribute(self):
+        methods, attributes = set(), set()
+        for path in FILES:
+            for node in nodes(path):
+                if isinstance(node, ast.ClassDef):
+                    methods |= {part.name for part in node.body if isinstance(part, ast.FunctionDef)}
+                if isinstance(node, ast.Attribute) and isinstance(node.ctx, ast.Store):
+                    attributes.add(node.attr)
+        self.assertEqual(methods & attributes, set())
