@@ -1,7 +1,7 @@
 """Doors, people and buildings, and how far people get in them."""
 
 from lockdoors.checks import all_in, are_names, is_name
-from lockdoors.errors import BadBuilding, BadDoor, BadLocks, BadName, BadPerson
+from lockdoors.errors import BadBuilding, BadDoor, BadLocks, BadName, BadPerson, BadTrail
 from lockdoors.locks import Locks
 
 FEWEST_ROOMS = 2
@@ -236,6 +236,12 @@ class Building:
                 and self.person_names == other.person_names and self.kept_people == other.kept_people)
 
 
+def check_building(building):
+    """Raise BadBuilding unless the value is a Building."""
+    if not isinstance(building, Building):
+        raise BadBuilding(None)
+
+
 def check_locks(building, locks):
     """Raise BadLocks unless the value is a Locks with doors of the building only."""
     if not isinstance(locks, Locks):
@@ -244,21 +250,42 @@ def check_locks(building, locks):
         raise BadLocks("not only doors of the building")
 
 
+def are_doors_of(building, names):
+    """Whether the value is a tuple of names of doors of the building, also with one more than once."""
+    return isinstance(names, tuple) and all([is_name(name) and name in building.doors for name in names])
+
+
+def check_trail(building, trail):
+    """Raise BadTrail unless the value is a tuple of names of doors of the building."""
+    if not are_doors_of(building, trail):
+        raise BadTrail("not a tuple of names of doors of the building")
+
+
 def keys_held(building, person, rooms):
     """The list of the keys that a person has who has been in these rooms."""
     places = building.key_rooms
     return list(person.carried) + [key for key in places if places[key] in rooms]
 
 
+def lets_through(building, person, locks, rooms, name):
+    """Whether a door is not locked, and a person who has been in these rooms has its key."""
+    door = building.door(name)
+    return name not in locks and (door.key is None or door.key in keys_held(building, person, rooms))
+
+
+def room_added(building, person, locks, rooms, name):
+    """The further room to which a door leads from one of these rooms, or None if the person gets to none by it."""
+    if lets_through(building, person, locks, rooms, name):
+        for start, end in building.door(name).ways():
+            if start in rooms and end not in rooms:
+                return end
+    return None
+
+
 def rooms_beyond(building, person, locks, rooms):
     """The list of the further rooms to which doors lead from these rooms, as far as the person gets through."""
-    held = keys_held(building, person, rooms)
-    beyond = []
-    for name in building.doors:
-        door = building.door(name)
-        if name not in locks and (door.key is None or door.key in held):
-            beyond.extend([end for start, end in door.ways() if start in rooms and end not in rooms])
-    return beyond
+    added = [room_added(building, person, locks, rooms, name) for name in building.doors]
+    return [room for room in added if room is not None]
 
 
 def suits(person, rooms):

@@ -40,3 +40,21 @@ def people():
 
 def house():
     return Building(ROOMS, dict(KEYS), doors(), people())
+
+
+NOT_BUILDINGS = [None, True, False, 0, 1, -5, '', 'house', [], ['hall'], (), ('hall', 'den'), {}, {'hall': 'den'},
+                 set(), {'hall'}, b'', object(), Building, Locks('front'), Locks(), Door('hall', 'den'),
+                 Person('hall'), ANY]
+
+# Neither one of these is a Locks with doors of the house only.
+WRONG_LOCKS = NOT_LOCKS + [Locks('gate'), Locks('front', 'gate'), Locks('zoo', 'stairs'), Locks('hall'), Locks('ann')]
+
+# None of these is the name of a person of the house.
+WRONG_PEOPLE = WRONG_NAMES + ['eve', 'front', 'iron', 'hall', 'an', 'anna']
+
+# None of these is a tuple of names of doors of the house.
+WRONG_TRAILS = [None, True, False, 0, 1, '', 'front', [], ['front'], ['front', 'stairs'], {}, {'front': 'front'},
+                set(), {'front'}, b'', b'front', object(), tuple, Locks('front'), Locks(), Door('hall', 'den'), ANY,
+                ('gate',), ('front', 'gate'), ('gate', 'front'), ('hall',), ('iron',), ('ann',), (('front',),),
+                ('front', ()), (['front'],)]
+WRONG_TRAILS += [(wrong,) for wrong in WRONG_NAMES] + [('front', wrong) for wrong in WRONG_NAMES]

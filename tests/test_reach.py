@@ -8,6 +8,7 @@ from lockdoors.errors import BadLocks, BadName
 from lockdoors.locks import Locks
 from lockdoors.plans import Building, Door, Person
 from tests.samples import NOT_LOCKS, WRONG_NAMES, house
+from tests.tries import smallest_reach, some_building, some_names
 
 ROOMS = ('a', 'b', 'c', 'd')
 
@@ -15,49 +16,6 @@ ROOMS = ('a', 'b', 'c', 'd')
 def reach(doors, person, locked=(), keys=None, rooms=ROOMS):
     building = Building(rooms, keys or {}, doors, {'p': person})
     return ''.join(building.reach('p', Locks(*locked)))
-
-
-def is_closed(building, person, locked, rooms):
-    """Whether no door that is not locked leads out of the rooms, with the keys that lie in them."""
-    keys = set(person.carried) | {key for key, room in building.key_rooms.items() if room in rooms}
-    for name in building.doors:
-        door = building.door(name)
-        ways = [(door.start, door.end)] + ([(door.end, door.start)] if door.both else [])
-        if name not in locked and (door.key is None or door.key in keys):
-            if any(start in rooms and end not in rooms for start, end in ways):
-                return False
-    return True
-
-
-def smallest_reach(building, name, locked):
-    """The definition of [5], word for word: the smallest set of rooms that is closed."""
-    person = building.person(name)
-    for many in range(1, len(building.rooms) + 1):
-        for rooms in itertools.combinations(building.rooms, many):
-            if person.start in rooms and is_closed(building, person, locked, rooms):
-                return list(rooms)
-
-
-def some_names(source, names, most):
-    return tuple(source.sample(names, source.randint(0, min(most, len(names)))))
-
-
-def some_person(source, rooms, keys):
-    wanted = some_names(source, rooms, 3)
-    cut = source.randint(0, len(wanted))
-    return Person(source.choice(rooms), carried=some_names(source, keys, 1), needs=wanted[:cut], shuns=wanted[cut:])
-
-
-def some_building(source):
-    rooms = source.sample(['a', 'b', 'c', 'd', 'e', 'f'], source.randint(2, 6))
-    keys = ['x', 'y', 'z'][:source.randint(0, 3)]
-    doors = {}
-    for name in source.sample(['da', 'db', 'dc', 'dd', 'de', 'df', 'dg', 'dh'], source.randint(1, 8)):
-        start, end = source.sample(rooms, 2)
-        doors[name] = Door(start, end, key=source.choice([None] + keys), both=source.random() < 0.4,
-                           cost=source.randint(1, 9))
-    people = {name: some_person(source, rooms, keys) for name in ['p', 'q', 'r', 's'][:source.randint(1, 4)]}
-    return Building(tuple(rooms), {key: source.choice(rooms) for key in keys}, doors, people)
 
 
 class ReachTest(unittest.TestCase):
