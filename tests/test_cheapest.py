@@ -113,7 +113,8 @@ class CheapestTest(unittest.TestCase):
         doors = {'x': Door('a', 'b', key='k', cost=5), 'y': Door('a', 'c')}
         building = plan(doors, keys={'k': 'c'}, p=Person('a', shuns=('b',)))
         self.assertEqual(names(building), 'y')
-        building = plan(doors, keys={'k': 'c'}, p=Person('a', shuns=('b',)), q=Person('a', carried=('k',), shuns=('b',)))
+        building = plan(doors, keys={'k': 'c'}, p=Person('a', shuns=('b',)),
+                        q=Person('a', carried=('k',), shuns=('b',)))
         self.assertEqual(names(building), 'x')
         self.assertTrue(self.check(building))
 
@@ -295,11 +296,12 @@ class ShowsTest(unittest.TestCase):
                 if source.random() < 0.2:
                     some.append(('shut', building.people[0], source.choice(all_sets(building))))
                 fine = all(is_doubt(building, doubt) for doubt in some)
-                cheaper = [other for other in all_sets(building) if cost_of(building, other) < cost_of(building, locked)]
+                price = cost_of(building, locked)
+                cheaper = [other for other in all_sets(building) if cost_of(building, other) < price]
                 ruled = [any(rules_out(building, doubt, Locks(*other)) for doubt in some) for other in cheaper]
-                wanted = (locked in right and cost_of(building, locked) == least and fine and all(ruled)
-                          and all(sorted(trail_rooms(building, name, locked, trails[name])) == sorted(table[name, locked])
-                                  for name in trails))
+                rooms = {name: trail_rooms(building, name, locked, trails[name]) for name in trails}
+                whole = all(sorted(rooms[name]) == sorted(table[name, locked]) for name in rooms)
+                wanted = locked in right and price == least and fine and all(ruled) and whole
                 seen[wanted] += 1
                 self.assertIs(Locking(Locks(*locked), trails, some).shows(building), wanted)
         self.assertGreater(min(seen.values()), 50)

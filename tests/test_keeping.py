@@ -179,7 +179,8 @@ class ShowsTest(unittest.TestCase):
                     locked = source.choice(all_sets(building) + [best] * 30)
                     trails = [trail for trail in correct.trails if source.random() < 0.9]
                     if source.random() < 0.4:
-                        trails.append(source.choice(all_trails(building, name, ()) + [some_names(source, building.doors, 3)]))
+                        others = all_trails(building, name, ()) + [some_names(source, building.doors, 3)]
+                        trails.append(source.choice(others))
                     wanted = is_shown(building, name, room, locked, trails, table)
                     seen[wanted] += 1
                     self.assertIs(KeepOut(Locks(*locked), trails).shows(building, name, room), wanted)
@@ -210,6 +211,13 @@ class ValuesTest(unittest.TestCase):
             self.assertTrue(one != other)
 
 
+class LikeVault:
+    """A value that is equal to a room, but is not a name."""
+
+    def __eq__(self, other):
+        return other == 'vault'
+
+
 class RefusedTest(unittest.TestCase):
     def calls(self, *arguments):
         return [lambda: keep_out(*arguments), lambda: KeepOut(Locks('front'), []).shows(*arguments)]
@@ -230,7 +238,7 @@ class RefusedTest(unittest.TestCase):
                         call()
 
     def test_not_a_room(self):
-        for wrong in WRONG_NAMES + ['shed', 'front', 'iron', 'ann', 'hal']:
+        for wrong in WRONG_NAMES + ['shed', 'front', 'iron', 'ann', 'hal', LikeVault()]:
             for call in self.calls(house(), 'ann', wrong):
                 with self.subTest(wrong=wrong), self.assertRaises(BadRoom):
                     call()

@@ -171,5 +171,6 @@ class LanguageTest(unittest.TestCase):
     def test_any_and_its_kin_take_lists(self):
         for path in FILES:
             for node in nodes(path):
-                if isinstance(node, ast.Call) and isinstance(node.func, ast.Name) and node.func.id in ('any', 'all', 'sum'):
-                    self.assertIsInstance(node.args[0], ast.ListComp, path)
+                if isinstance(node, ast.Call) and isinstance(node.func, ast.Name):
+                    if node.func.id in ('any', 'all', 'sum'):
+                        self.assertIsInstance(node.args[0], ast.ListComp, path)
